@@ -1,0 +1,18 @@
+"""Fractions in least terms, told as a tuple: numerator, denominator."""
+
+
+def common_divisor(first, second):
+    """The greatest number that divides both; first may be below 0."""
+    greater = abs(first)
+    lesser = abs(second)
+    while lesser > 0:
+        rest = greater % lesser
+        greater = lesser
+        lesser = rest
+    return greater
+
+
+def least(over, under):
+    """The fraction over / under in least terms; under is 1 or more."""
+    divisor = common_divisor(over, under)
+    return (over // divisor, under // divisor)
