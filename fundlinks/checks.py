@@ -1,6 +1,8 @@
 """What is refused: each function answers the first refusal that holds, or NOTHING_REFUSED."""
 
 from fundlinks.fund import MILLION, part_count, values_behind
+from fundlinks.money import GREATEST_RATE, left_over
+from fundlinks.returns import averaged_lower
 
 NOTHING_REFUSED = 0
 OUT_OF_RANGE = -1
@@ -9,6 +11,7 @@ NO_SUCH_END = -4
 NOT_AS_TOLD = -6
 NOTHING_LEFT = -7
 TOO_MANY = -8
+NOT_TO_BE_TOLD = -9
 
 MOST_PARTS = 6
 MOST_ENDS = 24
@@ -96,8 +99,63 @@ def span_refusal(fund, j, k):
     return refusal
 
 
-def part_span_refusal(fund, j, k, part):
-    """For a part, told from 1 on, and the ends j and k."""
+def part_refusal(fund, part):
+    """For a part, told from 1 on."""
     if not 1 <= part <= part_count(fund):
         return OUT_OF_RANGE
+    return NOTHING_REFUSED
+
+
+def part_span_refusal(fund, j, k, part):
+    """For a part and the ends j and k."""
+    refusal = part_refusal(fund, part)
+    if refusal != NOTHING_REFUSED:
+        return refusal
     return span_refusal(fund, j, k)
+
+
+def made_refusal(fund, k, part):
+    """For a part and the end k of a period: the beginning ends none."""
+    refusal = part_refusal(fund, part)
+    if refusal != NOTHING_REFUSED:
+        return refusal
+    refusal = ends_refusal(fund, [k])
+    if refusal == NOTHING_REFUSED and k == 0:
+        return NOT_AS_TOLD
+    return refusal
+
+
+def averaged_refusal(fund, j, k):
+    """For the averaged return from end j to end k, which must be later."""
+    refusal = span_refusal(fund, j, k)
+    if refusal != NOTHING_REFUSED:
+        return refusal
+    if j == k:
+        return NOT_AS_TOLD
+    if averaged_lower(fund, j, k) < 1:
+        return NOT_TO_BE_TOLD
+    return NOTHING_REFUSED
+
+
+def no_period_refusal(fund):
+    """For what can only be told of a fund with an end besides the beginning."""
+    if len(fund.ends) == 1:
+        return NOT_TO_BE_TOLD
+    return NOTHING_REFUSED
+
+
+def rate_refusal(fund, rate):
+    """For what's left over at so many millionths."""
+    if not 0 <= rate <= GREATEST_RATE:
+        return OUT_OF_RANGE
+    return no_period_refusal(fund)
+
+
+def money_weighted_refusal(fund):
+    """For the money-weighted return, which must lie between nothing and the greatest rate."""
+    refusal = no_period_refusal(fund)
+    if refusal != NOTHING_REFUSED:
+        return refusal
+    if left_over(fund, 0) >= 0 or left_over(fund, GREATEST_RATE) < 0:
+        return NOT_TO_BE_TOLD
+    return NOTHING_REFUSED

@@ -2,7 +2,8 @@
 
 from fundlinks.changes import add_period, begin, change_weights
 from fundlinks.fund import Fund
-from fundlinks.tellings import tell_bench, tell_linked, tell_part, tell_scaled, tell_value
+from fundlinks.tellings import tell_beats, tell_bench, tell_counts, tell_dietz, tell_fall, tell_irr, tell_linked
+from fundlinks.tellings import tell_made, tell_part, tell_scaled, tell_sign, tell_value
 
 BEGIN = 0
 WEIGHTS = 1
@@ -12,6 +13,13 @@ LINKED = 4
 SCALED = 5
 PART = 6
 BENCH = 7
+BEATS = 8
+MADE = 9
+IRR = 10
+SIGN = 11
+FALL = 12
+DIETZ = 13
+COUNTS = 14
 
 
 class UnknownCall(ValueError):
@@ -69,7 +77,26 @@ def answer_span(fund, reader, call):
         return tell_scaled(fund, j, k)
     if call == PART:
         return tell_part(fund, j, k, reader.take_number())
-    return tell_bench(fund, j, k)
+    if call == BENCH:
+        return tell_bench(fund, j, k)
+    if call == BEATS:
+        return tell_beats(fund, j, k)
+    return tell_dietz(fund, j, k)
+
+
+def answer_made(fund, reader):
+    """The answer to made, which names an end and a part."""
+    k = reader.take_number()
+    return tell_made(fund, k, reader.take_number())
+
+
+def answer_alone(fund, call):
+    """The answer to a call that is its number alone."""
+    if call == IRR:
+        return tell_irr(fund)
+    if call == FALL:
+        return tell_fall(fund)
+    return tell_counts(fund)
 
 
 def answer_call(fund, reader):
@@ -79,8 +106,14 @@ def answer_call(fund, reader):
         return answer_change(fund, reader, call)
     if call == VALUE:
         return tell_value(fund, reader.take_number())
-    if call in (LINKED, SCALED, PART, BENCH):
+    if call in (LINKED, SCALED, PART, BENCH, BEATS, DIETZ):
         return answer_span(fund, reader, call)
+    if call == MADE:
+        return answer_made(fund, reader)
+    if call == SIGN:
+        return tell_sign(fund, reader.take_number())
+    if call in (IRR, FALL, COUNTS):
+        return answer_alone(fund, call)
     raise UnknownCall(f"no call has the number {call}")
 
 

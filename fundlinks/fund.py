@@ -34,3 +34,8 @@ class Fund:
 def part_count(fund):
     """How many parts the fund has."""
     return len(fund.ends[0].before)
+
+
+def all_flows(end):
+    """All flows of the end together."""
+    return sum(end.behind) - sum(end.before)

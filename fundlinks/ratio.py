@@ -16,3 +16,8 @@ def least(over, under):
     """The fraction over / under in least terms; under is 1 or more."""
     divisor = common_divisor(over, under)
     return (over // divisor, under // divisor)
+
+
+def times(first, second):
+    """Two fractions multiplied."""
+    return least(first[0] * second[0], first[1] * second[1])

@@ -3,7 +3,7 @@
 Products are brought to least terms only once, at the end: that is exact all the same, and quicker.
 """
 
-from fundlinks.fund import MILLION
+from fundlinks.fund import MILLION, all_flows
 from fundlinks.ratio import least
 
 
@@ -48,3 +48,19 @@ def linked_benchmark(fund, j, k):
         over = over * weighted_factors(fund, m)
         under = under * MILLION * MILLION
     return least(over, under)
+
+
+def averaged_upper(fund, j, k):
+    """The upper part of the averaged return from end j to the later end k."""
+    first = fund.ends[j]
+    last = fund.ends[k]
+    flows = sum([all_flows(end) for end in fund.ends[j + 1:k]])
+    return (sum(last.before) - sum(first.behind) - flows) * (last.time - first.time)
+
+
+def averaged_lower(fund, j, k):
+    """The lower part of the averaged return from end j to the later end k; it may be below 1."""
+    first = fund.ends[j]
+    last = fund.ends[k]
+    flows = sum([all_flows(end) * (last.time - end.time) for end in fund.ends[j + 1:k]])
+    return sum(first.behind) * (last.time - first.time) + flows

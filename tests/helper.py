@@ -41,6 +41,34 @@ def bench(j, k):
     return [7, j, k]
 
 
+def beats(j, k):
+    return [8, j, k]
+
+
+def made(k, number):
+    return [9, k, number]
+
+
+def irr():
+    return [10]
+
+
+def sign(n):
+    return [11, n]
+
+
+def fall():
+    return [12]
+
+
+def dietz(j, k):
+    return [13, j, k]
+
+
+def counts():
+    return [14]
+
+
 def ask(*calls):
     """What each call answers, a list a call."""
     told = answers([number for call in calls for number in call])
@@ -81,3 +109,10 @@ def picture(parts, ends):
     for k in range(1, ends + 1):
         calls += [bench(k - 1, k)] + [part(k - 1, k, p) for p in range(1, parts + 2)]
     return calls
+
+
+def told_around(fund, call, parts, ends):
+    """What the call answers behind the fund's calls, and whether the fund's picture is the same before and behind."""
+    views = picture(parts, ends)
+    told = ask(*fund, *views, call, *views)[len(fund):]
+    return told[len(views)], told[:len(views)] == told[len(views) + 1:]

@@ -3,7 +3,8 @@
 import unittest
 from fractions import Fraction
 
-from tests.helper import ask, begin, bench, linked, part, period, scaled, value, weights
+from tests.helper import (ask, beats, begin, bench, counts, dietz, fall, irr, linked, made, part, period, scaled, sign,
+                          value, weights)
 
 
 class Numbers:
@@ -76,6 +77,69 @@ def bench_linked(row, ends, j, k):
     return linked_so_far
 
 
+def total_flows(ends, m):
+    return sum(ends[m][2]) - sum(ends[m][1])
+
+
+def which(first, second):
+    return [1 if first > second else 2 if first < second else 0]
+
+
+def fund_averaged(ends, j, k):
+    """The averaged return's upper and lower part."""
+    length = ends[k][0] - ends[j][0]
+    gain = sum(ends[k][1]) - sum(ends[j][2])
+    lower = sum(ends[j][2]) * length
+    for m in range(j + 1, k):
+        gain -= total_flows(ends, m)
+        lower += total_flows(ends, m) * (ends[k][0] - ends[m][0])
+    return gain * length, lower
+
+
+def averaged_answer(ends, j, k):
+    upper, lower = fund_averaged(ends, j, k)
+    return [-9] if lower < 1 else [0] + two(Fraction(upper, lower))
+
+
+def made_answer(row, ends, k, p):
+    had = ends[k - 1][2]
+    w = Fraction(had[p - 1], sum(had))
+    v = Fraction(row[p - 1], 1000000)
+    b = Fraction(ends[k][3][p - 1], 1000000)
+    whole = bench_linked(row, ends, k - 1, k)
+    r = Fraction(ends[k][1][p - 1], had[p - 1]) if had[p - 1] else b
+    return [0] + two((w - v) * (b - whole)) + two(v * (r - b)) + two((w - v) * (r - b))
+
+
+def fund_left(ends, n):
+    t = ends[-1][0]
+    left = sum(ends[0][1]) * n ** t
+    for m in range(1, len(ends) - 1):
+        left += total_flows(ends, m) * n ** (t - ends[m][0]) * 1000000 ** ends[m][0]
+    return left - sum(ends[-1][1]) * 1000000 ** t
+
+
+def irr_answer(ends):
+    if fund_left(ends, 0) >= 0 or fund_left(ends, 10000000) < 0:
+        return [-9]
+    lo = 0
+    hi = 10000000
+    while hi > lo + 1:
+        m = (lo + hi) // 2
+        if fund_left(ends, m) < 0:
+            lo = m
+        else:
+            hi = m
+    return [lo]
+
+
+def fall_answer(ends):
+    pairs = [(fund_linked(ends, j, k), j, k) for k in range(len(ends)) for j in range(k + 1)
+             if fund_linked(ends, 0, j) != 0]
+    factor, j, k = min(pairs)
+    return [j, k] + two(factor)
+
+
 def two(fraction):
     return [fraction.numerator, fraction.denominator]
 
@@ -95,11 +159,41 @@ class AgainstFractions(unittest.TestCase):
             k = numbers.below(len(ends))
             j = numbers.below(k + 1)
             p = 1 + numbers.below(len(row))
-            calls += [value(k), linked(j, k), scaled(j, k), part(j, k, p), bench(j, k)]
+            calls += [value(k), linked(j, k), scaled(j, k), part(j, k, p), bench(j, k), beats(j, k)]
             factor = fund_linked(ends, j, k)
+            benchmark = bench_linked(row, ends, j, k)
             expected += [[ends[k][0], sum(ends[k][1]), sum(ends[k][2])], two(factor), [factor * 1000000000 // 1],
-                         [0] + two(fund_brought(ends, j, k, p)), two(bench_linked(row, ends, j, k))]
+                         [0] + two(fund_brought(ends, j, k, p)), two(benchmark), which(factor, benchmark)]
+            calls += [made(k, p), dietz(j, k)]
+            expected += [made_answer(row, ends, k, p) if k > 0 else [-6],
+                         averaged_answer(ends, j, k) if j < k else [-6]]
+            rate = numbers.below((3, 1000000, 2000000, 10000001)[numbers.below(4)])
+            calls += [sign(rate)]
+            expected += [which(fund_left(ends, rate), 0)]
+        calls += [irr(), fall(), counts()]
+        expected += [irr_answer(ends), fall_answer(ends), [len(row), len(ends) - 1, ends[-1][0]]]
         self.assertEqual(ask(*calls), expected)
+
+    def test_what_made_the_difference_adds_up_to_it(self):
+        for seed in range(200, 220):
+            row, ends = made_fund(seed)
+            k = len(ends) - 1
+            asked = [linked(k - 1, k), bench(k - 1, k)] + [made(k, p) for p in range(1, len(row) + 1)]
+            told = ask(*calls_for(row, ends), *asked)[-len(asked):]
+            together = sum(Fraction(*answer[n:n + 2]) for answer in told[2:] for n in (1, 3, 5))
+            self.assertEqual(together, Fraction(*told[0]) - Fraction(*told[1]))
+
+    def test_the_return_lies_where_the_sign_changes(self):
+        found = 0
+        for seed in range(300, 340):
+            calls = calls_for(*made_fund(seed))
+            answer = ask(*calls, irr())[-1]
+            if answer != [-9]:
+                told = ask(*calls, sign(answer[0]), sign(answer[0] + 1))[-2:]
+                self.assertEqual(told[0], [2])
+                self.assertIn(told[1], ([0], [1]))
+                found += 1
+        self.assertGreater(found, 10)
 
     def test_what_the_parts_brought_adds_up_to_what_the_fund_made(self):
         for seed in range(100, 120):
